@@ -234,9 +234,34 @@ func TestOffsets(t *testing.T) {
 	}
 }
 
+// The tables that are kept are the ones that the other functions compute.
+func TestTables(t *testing.T) {
+	for range 3 {
+		c, o := keccak.Tables()
+		if c != constants || c != keccak.Constants() {
+			t.Errorf("the constants of Tables: %x", c)
+		}
+		for y, row := range offsets {
+			if [5]int(o[5*y:5*y+5]) != row {
+				t.Errorf("the offsets of Tables for y = %d: %d", y, o[5*y:5*y+5])
+			}
+		}
+		if o != keccak.Offsets() {
+			t.Errorf("the offsets of Tables: %d", o)
+		}
+	}
+}
+
 // What was returned is the caller's: a change of it changes nothing else.
 func TestChangedTables(t *testing.T) {
-	c, o := keccak.Constants(), keccak.Offsets()
+	changedTables(t, keccak.Constants(), keccak.Offsets())
+	c, o := keccak.Tables()
+	changedTables(t, c, o)
+}
+
+// changedTables changes tables and checks all that is returned afterwards.
+func changedTables(t *testing.T, c [24]uint64, o [25]int) {
+	t.Helper()
 	for i := range c {
 		c[i] = 0
 	}
@@ -245,6 +270,7 @@ func TestChangedTables(t *testing.T) {
 	}
 	TestConstants(t)
 	TestOffsets(t)
+	TestTables(t)
 	sameRounds(t, some(1))
 	if got := keccak.Permute(keccak.State{}); got != ofZeros {
 		t.Errorf("Permute of zeros: %x", got)
@@ -487,6 +513,7 @@ func atOnce(f func(number int)) {
 // calls has a check of each function that needs the tables.
 func calls() map[string]func(*testing.T) {
 	return map[string]func(*testing.T){
+		"Tables":    TestTables,
 		"Constants": TestConstants,
 		"Offsets":   TestOffsets,
 		"Round":     TestRoundsOfZeros,
@@ -523,7 +550,7 @@ func TestFirst(t *testing.T) {
 	if call := calls()[*first]; call != nil {
 		atOnce(func(int) { call(t) })
 	}
-	names := []string{"Constants", "Offsets", "Round", "Rounds", "Permute"}
+	names := []string{"Tables", "Constants", "Offsets", "Round", "Rounds", "Permute"}
 	atOnce(func(number int) { calls()[names[number%len(names)]](t) })
 }
 
@@ -533,6 +560,7 @@ func TestConcurrentCalls(t *testing.T) {
 			s := some(number + i)
 			sameRounds(t, s)
 			sameBytes(t, s, keccak.Bytes(s))
+			TestTables(t)
 			TestConstants(t)
 			TestOffsets(t)
 			TestPermutationOfZeros(t)
