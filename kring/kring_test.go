@@ -7,6 +7,7 @@ import (
 	"os"
 	"os/exec"
 	"runtime"
+	"slices"
 	"sync"
 	"sync/atomic"
 	"testing"
@@ -272,6 +273,32 @@ func TestRootsDiffer(t *testing.T) {
 		if power(int64(z), 128) != q-1 {
 			t.Errorf("Root(%d): %d is no root", i, z)
 		}
+	}
+}
+
+// The powers that are kept are those that products of 17 make, in each call.
+func TestPowers(t *testing.T) {
+	for range 3 {
+		for n, got := range kring.Powers() {
+			if int64(got) != power(17, n) {
+				t.Errorf("Powers: %d at %d, want %d", got, n, power(17, n))
+			}
+		}
+	}
+}
+
+// The roots are the powers with an odd exponent.
+func TestPowersAndRoots(t *testing.T) {
+	powers := kring.Powers()
+	var odd, all []uint16
+	for i := range 128 {
+		z, _ := kring.Root(i)
+		all, odd = append(all, z), append(odd, powers[2*i+1])
+	}
+	slices.Sort(all)
+	slices.Sort(odd)
+	if !slices.Equal(all, odd) {
+		t.Errorf("the roots are %d, and the odd powers %d", all, odd)
 	}
 }
 
@@ -547,9 +574,15 @@ func TestChangedResults(t *testing.T) {
 	for i := range again {
 		again[i] = kring.Poly{}
 	}
+	powers := kring.Powers()
+	for n := range powers {
+		powers[n] = 0
+	}
 	if results() != before {
 		t.Error("other results")
 	}
+	TestPowers(t)
+	TestRoots(t)
 }
 
 // atOnce calls f in several goroutines that begin at the same time: each of them
@@ -573,6 +606,7 @@ func atOnce(f func(number int)) {
 // calls has a check of each function, with an argument of its own for a number.
 func calls() map[string]func(t *testing.T, number int) {
 	return map[string]func(*testing.T, int){
+		"Powers": func(t *testing.T, _ int) { TestPowers(t) },
 		"Root": func(t *testing.T, number int) {
 			for i := range 128 {
 				if got, ok := kring.Root((number + i) % 128); int64(got) != root((number+i)%128) || !ok {
@@ -608,7 +642,7 @@ func TestFirstCalls(t *testing.T) {
 	if err != nil {
 		t.Fatal(err)
 	}
-	for _, name := range []string{"Root", "NTT", "Inverse", "Mul", "sums", "all"} {
+	for _, name := range []string{"Powers", "Root", "NTT", "Inverse", "Mul", "sums", "all"} {
 		for range 10 {
 			if out, err := exec.Command(program, "-test.run=^TestFirst$", "-first="+name).CombinedOutput(); err != nil {
 				t.Errorf("%s first: %v\n%s", name, err, out)
@@ -630,7 +664,7 @@ func TestFirst(t *testing.T) {
 
 // callAll calls each of the functions in some goroutines.
 func callAll(t *testing.T) {
-	names := []string{"Root", "NTT", "Inverse", "Mul", "sums"}
+	names := []string{"Powers", "Root", "NTT", "Inverse", "Mul", "sums"}
 	atOnce(func(number int) { calls()[names[number%len(names)]](t, number) })
 }
 
