@@ -7,6 +7,7 @@ import (
 	"os"
 	"os/exec"
 	"runtime"
+	"slices"
 	"sync"
 	"sync/atomic"
 	"testing"
@@ -249,6 +250,34 @@ func TestRootsDiffer(t *testing.T) {
 		if power(int64(z), 256) != q-1 {
 			t.Errorf("Root(%d): %d is no root", i, z)
 		}
+	}
+}
+
+// The powers that are kept are those that products of 1753 make, in each call.
+func TestPowers(t *testing.T) {
+	for range 3 {
+		want := int64(1)
+		for n, got := range dring.Powers() {
+			if int64(got) != want {
+				t.Errorf("Powers: %d at %d, want %d", got, n, want)
+			}
+			want = want * 1753 % q
+		}
+	}
+}
+
+// The roots are the powers with an odd exponent.
+func TestPowersAndRoots(t *testing.T) {
+	powers := dring.Powers()
+	var odd, all []uint32
+	for i := range 256 {
+		z, _ := dring.Root(i)
+		all, odd = append(all, z), append(odd, powers[2*i+1])
+	}
+	slices.Sort(all)
+	slices.Sort(odd)
+	if !slices.Equal(all, odd) {
+		t.Errorf("the roots are %d, and the odd powers %d", all, odd)
 	}
 }
 
@@ -526,9 +555,14 @@ func TestChangedResults(t *testing.T) {
 	for i := range again {
 		again[i] = dring.Poly{}
 	}
+	powers := dring.Powers()
+	for n := range powers {
+		powers[n] = 0
+	}
 	if results() != before {
 		t.Error("other results")
 	}
+	TestPowers(t)
 	TestRoots(t)
 }
 
@@ -553,6 +587,7 @@ func atOnce(f func(number int)) {
 // calls has a check of each function, with an argument of its own for a number.
 func calls() map[string]func(t *testing.T, number int) {
 	return map[string]func(*testing.T, int){
+		"Powers": func(t *testing.T, _ int) { TestPowers(t) },
 		"Root": func(t *testing.T, number int) {
 			for i := range 256 {
 				if got, ok := dring.Root((number + i) % 256); int64(got) != root((number+i)%256) || !ok {
@@ -585,7 +620,7 @@ func TestFirstCalls(t *testing.T) {
 	if err != nil {
 		t.Fatal(err)
 	}
-	for _, name := range []string{"Root", "NTT", "Inverse", "sums", "all"} {
+	for _, name := range []string{"Powers", "Root", "NTT", "Inverse", "sums", "all"} {
 		for range 5 {
 			if out, err := exec.Command(program, "-test.run=^TestFirst$", "-first="+name).CombinedOutput(); err != nil {
 				t.Errorf("%s first: %v\n%s", name, err, out)
@@ -607,7 +642,7 @@ func TestFirst(t *testing.T) {
 
 // callAll calls each of the functions in some goroutines.
 func callAll(t *testing.T) {
-	names := []string{"Root", "NTT", "Inverse", "sums"}
+	names := []string{"Powers", "Root", "NTT", "Inverse", "sums"}
 	atOnce(func(number int) { calls()[names[number%len(names)]](t, number) })
 }
 
